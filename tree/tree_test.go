@@ -237,7 +237,7 @@ func TestConsequences(t *testing.T) {
 	r := rand.New(rand.NewSource(5))
 	s := tree.New()
 	given := map[int]bool{1: true}
-	for i := 0; i < 4000; i++ {
+	for i := 0; i < 1000; i++ {
 		id := s.Nodes[r.Intn(len(s.Nodes))].ID
 		n, child, e := tree.Add(s, id, string(rune('a'+r.Intn(5))))
 		if e == api.OK {
