@@ -19,3 +19,20 @@ func Hierarchy(h api.Hierarchy) api.Hierarchy {
 	h.Tasks = slices.Clone(h.Tasks)
 	return h
 }
+
+// Settings returns a copy of settings.
+func Settings(s api.Settings) api.Settings {
+	s.Cpus = slices.Clone(s.Cpus)
+	s.Mems = slices.Clone(s.Mems)
+	s.Devices = slices.Clone(s.Devices)
+	return s
+}
+
+// Configs returns a copy of the settings of groups.
+func Configs(l []api.Config) []api.Config {
+	l = slices.Clone(l)
+	for i := range l {
+		l[i].Settings = Settings(l[i].Settings)
+	}
+	return l
+}

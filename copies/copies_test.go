@@ -73,4 +73,6 @@ func check[T any](t *testing.T, copied func(T) T) {
 func TestCopies(t *testing.T) {
 	check(t, copies.Tree)
 	check(t, copies.Hierarchy)
+	check(t, copies.Settings)
+	check(t, copies.Configs)
 }
