@@ -36,3 +36,12 @@ func Configs(l []api.Config) []api.Config {
 	}
 	return l
 }
+
+// Branches returns a copy of the queues of groups.
+func Branches(l []api.Branch) []api.Branch {
+	l = slices.Clone(l)
+	for i := range l {
+		l[i].Queue.Items = slices.Clone(l[i].Queue.Items)
+	}
+	return l
+}

@@ -75,4 +75,5 @@ func TestCopies(t *testing.T) {
 	check(t, copies.Hierarchy)
 	check(t, copies.Settings)
 	check(t, copies.Configs)
+	check(t, copies.Branches)
 }
