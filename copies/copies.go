@@ -45,3 +45,18 @@ func Branches(l []api.Branch) []api.Branch {
 	}
 	return l
 }
+
+// Pool returns a copy of a pool.
+func Pool(p api.Pool) api.Pool {
+	p.Local = slices.Clone(p.Local)
+	return p
+}
+
+// Pools returns a copy of the pools of groups.
+func Pools(l []api.Pool) []api.Pool {
+	l = slices.Clone(l)
+	for i := range l {
+		l[i] = Pool(l[i])
+	}
+	return l
+}

@@ -76,4 +76,6 @@ func TestCopies(t *testing.T) {
 	check(t, copies.Settings)
 	check(t, copies.Configs)
 	check(t, copies.Branches)
+	check(t, copies.Pool)
+	check(t, copies.Pools)
 }
