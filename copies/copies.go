@@ -60,3 +60,18 @@ func Pools(l []api.Pool) []api.Pool {
 	}
 	return l
 }
+
+// Machine returns a copy of a machine.
+func Machine(m api.Machine) api.Machine {
+	m.Domains = slices.Clone(m.Domains)
+	return m
+}
+
+// Processors returns a copy of the state of the processor controller.
+func Processors(p api.Processors) api.Processors {
+	p.Machine = Machine(p.Machine)
+	p.Branches = Branches(p.Branches)
+	p.Pools = Pools(p.Pools)
+	p.Last = slices.Clone(p.Last)
+	return p
+}

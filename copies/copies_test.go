@@ -78,4 +78,6 @@ func TestCopies(t *testing.T) {
 	check(t, copies.Branches)
 	check(t, copies.Pool)
 	check(t, copies.Pools)
+	check(t, copies.Machine)
+	check(t, copies.Processors)
 }
