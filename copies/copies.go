@@ -75,3 +75,9 @@ func Processors(p api.Processors) api.Processors {
 	p.Last = slices.Clone(p.Last)
 	return p
 }
+
+// Stock returns a copy of the memory of groups.
+func Stock(s api.Stock) api.Stock {
+	s.Holdings = slices.Clone(s.Holdings)
+	return s
+}

@@ -80,4 +80,5 @@ func TestCopies(t *testing.T) {
 	check(t, copies.Pools)
 	check(t, copies.Machine)
 	check(t, copies.Processors)
+	check(t, copies.Stock)
 }

@@ -176,7 +176,7 @@ func TestP22_6(t *testing.T) {
 		e    api.Errno
 	}{
 		{sample(), of(2, 5, 3, 7), 3, of(2, 12), api.OK}, {sample(), of(3, 7), 3, of(2, 7), api.OK}, {sample(), of(2, 5), 3, of(2, 5), api.OK}, {sample(), of(1, 1, 2, 5, 5, 2, 6, 3), 6, of(1, 4, 2, 5, 5, 2), api.OK}, {sample(), of(6, 3), 6, of(1, 3), api.OK}, {sample(), of(), 5, of(), api.OK},
-		{bad, of(), 3, of(), api.ErrInvalid}, {sample(), of(4, 1), 9, of(), api.ErrInvalid}, {sample(), of(), 4, of(), api.ErrUnknown}, {sample(), of(), 0, of(), api.ErrUnknown}, {sample(), of(), 1, of(), api.ErrRange}, {tree.New(), of(), 1, of(), api.ErrRange}, {sample(), of(), 2, of(), api.ErrBusy},
+		{bad, of(), 3, of(), api.ErrInvalid}, {sample(), of(4, 1), 9, of(), api.ErrInvalid}, {sample(), of(), 4, of(), api.ErrUnknown}, {sample(), of(), 0, of(), api.ErrUnknown}, {sample(), of(), 1, of(), api.ErrRange}, {tree.New(), of(), 1, of(), api.ErrRange}, {sample(), of(), 2, of(), api.ErrBusy}, {api.Tree{Next: 4, Nodes: []api.Node{{ID: 1}, {ID: 2, Parent: 1, Name: "a"}, {ID: 3, Parent: 2, Name: "b"}}}, of(), 2, of(), api.ErrBusy},
 	} {
 		before := fmt.Sprint(x.c)
 		c, e := counter.Remove(x.t, x.c, x.id)
