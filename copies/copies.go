@@ -81,3 +81,12 @@ func Stock(s api.Stock) api.Stock {
 	s.Holdings = slices.Clone(s.Holdings)
 	return s
 }
+
+// Objects returns a copy of shared objects.
+func Objects(l []api.Object) []api.Object {
+	l = slices.Clone(l)
+	for i := range l {
+		l[i].Parts = slices.Clone(l[i].Parts)
+	}
+	return l
+}

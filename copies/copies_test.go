@@ -81,4 +81,5 @@ func TestCopies(t *testing.T) {
 	check(t, copies.Machine)
 	check(t, copies.Processors)
 	check(t, copies.Stock)
+	check(t, copies.Objects)
 }

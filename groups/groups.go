@@ -17,9 +17,11 @@ func Known(t api.Tree, id int) bool {
 
 // Ascending reports whether t is a tree, and the elements of a list are noted for different groups of it, ascending.
 func Ascending[T any](t api.Tree, l []T, group func(T) int) bool {
-	if !tree.Check(t) {
-		return false
-	}
+	return tree.Check(t) && Ordered(t, l, group)
+}
+
+// Ordered reports whether the elements of a list are noted for different groups, ascending, of a tree that tree.Check accepts.
+func Ordered[T any](t api.Tree, l []T, group func(T) int) bool {
 	last := 0
 	for _, x := range l {
 		id := group(x)
