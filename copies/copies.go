@@ -90,3 +90,14 @@ func Objects(l []api.Object) []api.Object {
 	}
 	return l
 }
+
+// Device returns a copy of the state of a device.
+func Device(d api.Device) api.Device {
+	d.Weights = slices.Clone(d.Weights)
+	d.Buckets = slices.Clone(d.Buckets)
+	d.Depths = slices.Clone(d.Depths)
+	d.V = slices.Clone(d.V)
+	d.Queue = slices.Clone(d.Queue)
+	d.Flights = slices.Clone(d.Flights)
+	return d
+}

@@ -82,4 +82,5 @@ func TestCopies(t *testing.T) {
 	check(t, copies.Processors)
 	check(t, copies.Stock)
 	check(t, copies.Objects)
+	check(t, copies.Device)
 }
