@@ -101,3 +101,10 @@ func Device(d api.Device) api.Device {
 	d.Flights = slices.Clone(d.Flights)
 	return d
 }
+
+// Freezer returns a copy of a freezer.
+func Freezer(f api.Freezer) api.Freezer {
+	f.Frosts = slices.Clone(f.Frosts)
+	f.Stopped = slices.Clone(f.Stopped)
+	return f
+}

@@ -83,4 +83,5 @@ func TestCopies(t *testing.T) {
 	check(t, copies.Stock)
 	check(t, copies.Objects)
 	check(t, copies.Device)
+	check(t, copies.Freezer)
 }
