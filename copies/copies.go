@@ -108,3 +108,38 @@ func Freezer(f api.Freezer) api.Freezer {
 	f.Stopped = slices.Clone(f.Stopped)
 	return f
 }
+
+// Devices returns a copy of the states of devices.
+func Devices(l []api.Device) []api.Device {
+	l = slices.Clone(l)
+	for i := range l {
+		l[i] = Device(l[i])
+	}
+	return l
+}
+
+// Setup returns a copy of a setup.
+func Setup(s api.Setup) api.Setup {
+	s.Machine = Machine(s.Machine)
+	s.Online = slices.Clone(s.Online)
+	s.Devices = slices.Clone(s.Devices)
+	return s
+}
+
+// System returns a copy of a system.
+func System(y api.System) api.System {
+	y.Setup = Setup(y.Setup)
+	y.Hierarchy = Hierarchy(y.Hierarchy)
+	y.Configs = Configs(y.Configs)
+	y.Counts = slices.Clone(y.Counts)
+	y.Stock = Stock(y.Stock)
+	y.Objects = Objects(y.Objects)
+	y.Residents = slices.Clone(y.Residents)
+	y.Adjusts = slices.Clone(y.Adjusts)
+	y.Freezer = Freezer(y.Freezer)
+	y.Tallies = slices.Clone(y.Tallies)
+	y.Gauge.Values = slices.Clone(y.Gauge.Values)
+	y.Devices = Devices(y.Devices)
+	y.Processors = Processors(y.Processors)
+	return y
+}

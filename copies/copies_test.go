@@ -84,4 +84,7 @@ func TestCopies(t *testing.T) {
 	check(t, copies.Objects)
 	check(t, copies.Device)
 	check(t, copies.Freezer)
+	check(t, copies.Devices)
+	check(t, copies.Setup)
+	check(t, copies.System)
 }
