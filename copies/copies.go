@@ -143,3 +143,20 @@ func System(y api.System) api.System {
 	y.Processors = Processors(y.Processors)
 	return y
 }
+
+// Programs returns a copy of programs.
+func Programs(l []api.Program) []api.Program {
+	l = slices.Clone(l)
+	for i := range l {
+		l[i].Steps = slices.Clone(l[i].Steps)
+	}
+	return l
+}
+
+// World returns a copy of a world.
+func World(w api.World) api.World {
+	w.System = System(w.System)
+	w.Programs = Programs(w.Programs)
+	w.Runners = slices.Clone(w.Runners)
+	return w
+}

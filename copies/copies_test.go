@@ -87,4 +87,6 @@ func TestCopies(t *testing.T) {
 	check(t, copies.Devices)
 	check(t, copies.Setup)
 	check(t, copies.System)
+	check(t, copies.Programs)
+	check(t, copies.World)
 }
