@@ -368,16 +368,18 @@ func TestConsequences(t *testing.T) {
 					t.Fatal(x, online)
 				}
 			}
-			for _, c := range l {
-				limited = limited || c.Settings.Quota != api.Max
+			for _, q := range p.Pools {
+				limited = limited || q.Quota != api.Max
 			}
 			if !limited && len(a) != len(place.Greatest(m, wants)) {
 				t.Fatal("a processor is idle", a, wants)
 			}
 			p = q
 			ran += len(a)
-			if r.Intn(6) == 0 {
+			if r.Intn(6) == 0 { // pools keep their quotas until Sync
 				l = adjust(r, h.Tree, l, len(m.Domains))
+			}
+			if r.Intn(6) == 0 {
 				p, _ = cpu.Sync(h, l, p, p.Pools[0].Slice)
 			}
 		}
