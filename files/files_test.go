@@ -3,6 +3,7 @@ package files_test
 import (
 	"fmt"
 	"math/rand"
+	"slices"
 	"strings"
 	"testing"
 
@@ -14,6 +15,30 @@ import (
 func eq(a, b any) bool { return fmt.Sprint(a) == fmt.Sprint(b) }
 
 var all = []string{"pids.max", "cpu.weight", "cpu.max", "cpu.max.burst", "cpu.uclamp.min", "cpu.uclamp.max", "cpuset.cpus", "cpuset.mems", "cpuset.cpus.partition"}
+
+// TestP12_1 goes through the table: each file belongs to its controller, and sets its own field.
+func TestP12_1(t *testing.T) {
+	for _, x := range []struct {
+		file       string
+		controller int
+		text       string
+		set        func(*api.Settings)
+	}{
+		{"pids.max", api.Pids, "7", func(s *api.Settings) { s.PidsMax = 7 }}, {"cpu.weight", api.CPU, "8", func(s *api.Settings) { s.Weight = 8 }}, {"cpu.max", api.CPU, "600 900", func(s *api.Settings) { s.Quota, s.Period = 600, 900 }}, {"cpu.max.burst", api.CPU, "9", func(s *api.Settings) { s.Burst = 9 }}, {"cpu.uclamp.min", api.CPU, "0.5", func(s *api.Settings) { s.ClampMin = 50 }}, {"cpu.uclamp.max", api.CPU, "0.6", func(s *api.Settings) { s.ClampMax = 60 }},
+		{"cpuset.cpus", api.Cpuset, "15", func(s *api.Settings) { s.Cpus = []int{15} }}, {"cpuset.mems", api.Cpuset, "7", func(s *api.Settings) { s.Mems = []int{7} }}, {"cpuset.cpus.partition", api.Cpuset, "member", func(s *api.Settings) { s.Partition = api.PartitionMember }},
+	} {
+		want := base()
+		x.set(&want)
+		if s, e := files.Write(base(), x.file, x.text); e != api.OK || !eq(s, want) {
+			t.Error(x.file, s, e)
+		}
+		for bit := 1; bit < 64; bit *= 2 {
+			if has := slices.Contains(files.Names(false, bit), x.file); has != (bit == x.controller) || slices.Contains(files.Names(true, bit), x.file) {
+				t.Error(x.file, bit)
+			}
+		}
+	}
+}
 
 func TestP12_2(t *testing.T) {
 	cpu, set := all[1:6], all[6:]
