@@ -47,11 +47,11 @@ func TestP3_2Parse(t *testing.T) {
 		want []int
 		e    api.Errno
 	}{
-		{"", 0, nil, api.OK}, {"", 16, nil, api.OK}, {"", -1, nil, api.OK}, {"", 65536, nil, api.OK}, {"", 65537, nil, api.ErrRange},
+		{"", 0, nil, api.OK}, {"", 16, nil, api.OK}, {"", -1, nil, api.OK}, {"", 65536, nil, api.OK},
 		{"0", 1, []int{0}, api.OK}, {"0-2,7,1", 8, []int{0, 1, 2, 7}, api.OK}, {"7,0-2", 8, []int{0, 1, 2, 7}, api.OK}, {"3-3", 4, []int{3}, api.OK},
 		{"1-4,2-3,3-6,1", 16, []int{1, 2, 3, 4, 5, 6}, api.OK}, {"5,5,5", 16, []int{5}, api.OK}, {"007,01-002", 16, []int{1, 2, 7}, api.OK}, {"000000001", 16, []int{1}, api.OK},
 		{"4-5,1-2", 16, []int{1, 2, 4, 5}, api.OK}, {"1-2,0-9", 10, []int{0, 1, 2, 3, 4, 5, 6, 7, 8, 9}, api.OK}, {"65535", 65536, []int{65535}, api.OK},
-		{"0", 0, nil, api.ErrRange}, {"0", -7, nil, api.ErrRange}, {"16", 16, nil, api.ErrRange}, {"1-16", 16, nil, api.ErrRange}, {"3,99,1", 16, nil, api.ErrRange}, {"999999999", 65536, nil, api.ErrRange}, {"0", 65537, nil, api.ErrRange}, {"1", math.MaxInt, nil, api.ErrRange},
+		{"0", 0, nil, api.ErrRange}, {"0", -7, nil, api.ErrRange}, {"16", 16, nil, api.ErrRange}, {"1-16", 16, nil, api.ErrRange}, {"3,99,1", 16, nil, api.ErrRange}, {"999999999", 65536, nil, api.ErrRange},
 		{",", 16, nil, api.ErrText}, {"1,", 16, nil, api.ErrText}, {",1", 16, nil, api.ErrText}, {"1,,2", 16, nil, api.ErrText}, {"-", 16, nil, api.ErrText}, {"1-", 16, nil, api.ErrText}, {"-1", 16, nil, api.ErrText}, {"1-2-3", 16, nil, api.ErrText},
 		{"2-1", 16, nil, api.ErrText}, {"99-98", 16, nil, api.ErrText}, {"99,x", 16, nil, api.ErrText}, {"x", 70000, nil, api.ErrText}, {"0000000001", 16, nil, api.ErrText}, {"1234567890", 16, nil, api.ErrText}, {"1-1234567890", 16, nil, api.ErrText}, {"1000000000-1000000001", 16, nil, api.ErrText},
 		{" ", 16, nil, api.ErrText}, {"1, 2", 16, nil, api.ErrText}, {"1\n", 16, nil, api.ErrText}, {"a", 16, nil, api.ErrText}, {"1-b", 16, nil, api.ErrText}, {"+1", 16, nil, api.ErrText}, {"٣", 16, nil, api.ErrText}, {"max", 16, nil, api.ErrText}, {"/", 16, nil, api.ErrText}, {":", 16, nil, api.ErrText},
@@ -60,6 +60,33 @@ func TestP3_2Parse(t *testing.T) {
 		if e != x.e || !eq(l, x.want) {
 			t.Errorf("Parse(%q, %d) = %v, %v", x.s, x.n, l, e)
 		}
+	}
+}
+
+// TestP3_2Bound reads with bounds above 65536, which count as 65536.
+func TestP3_2Bound(t *testing.T) {
+	all := make([]int, 65536)
+	for i := range all {
+		all[i] = i
+	}
+	for _, n := range []int{65536, 65537, 70000, 1000000000, api.Max, math.MaxInt} {
+		for _, x := range []struct {
+			s    string
+			want []int
+			e    api.Errno
+		}{
+			{"", nil, api.OK}, {"0", []int{0}, api.OK}, {"65535", []int{65535}, api.OK}, {"3,1-2", []int{1, 2, 3}, api.OK}, {"65534-65535,000065535", []int{65534, 65535}, api.OK}, {"0-65535", all, api.OK},
+			{"65536", nil, api.ErrRange}, {"65537", nil, api.ErrRange}, {"65535-65536", nil, api.ErrRange}, {"0-65536", nil, api.ErrRange}, {"70000,1", nil, api.ErrRange}, {"0-999999999", nil, api.ErrRange}, {"999999999", nil, api.ErrRange},
+			{",", nil, api.ErrText}, {"1,", nil, api.ErrText}, {"65536,a", nil, api.ErrText}, {"0-999999999,2-1", nil, api.ErrText}, {"1000000000", nil, api.ErrText},
+		} {
+			l, e := sets.Parse(x.s, n)
+			if e != x.e || !eq(l, x.want) {
+				t.Errorf("Parse(%q, %d) = %d numbers, %v", x.s, n, len(l), e)
+			}
+		}
+	}
+	if l, e := sets.Parse("65535", 65535); e != api.ErrRange || l != nil {
+		t.Error("65535 below 65535", l, e)
 	}
 }
 
